@@ -1,0 +1,1 @@
+"""Knowthree: guests who know one another."""
