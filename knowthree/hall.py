@@ -8,11 +8,15 @@ MOST_GUESTS = 20
 
 # The refusals never quote the number they refuse: Python won't write out a
 # number of some thousand figures, and would raise an error of its own instead.
+def need_many(many):
+    if many < FEWEST_GUESTS or many > MOST_GUESTS:
+        raise BadHall("a hall has 1 to 20 guests")
+
+
 class Hall:
 
     def __init__(self, many):
-        if many < FEWEST_GUESTS or many > MOST_GUESTS:
-            raise BadHall("a hall has 1 to 20 guests")
+        need_many(many)
         # Each two guests stand here twice, once in either order, so that
         # nothing that asks has to know which of them is the lesser one.
         self.rows = [[False] * many for guest in range(many)]

@@ -1,20 +1,12 @@
 import unittest
-from itertools import combinations
 
-from helper import expected, hall_of, large_pairs, pairs_of, small_halls, told
+from helper import expected, hall_of, large_pairs, pairs_of, small_halls, some_pairs, threes_by_hand, told
 from knowthree.hall import Hall, turned
+from knowthree.threes import a_three, how_many, threes
 
 
 def others_of(many, pairs):
     return [pair for pair in pairs_of(many) if pair not in pairs]
-
-
-def threes_by_hand(hall):
-    found = []
-    for one, two, three in combinations(range(hall.many()), 3):
-        if hall.know(one, two) == hall.know(one, three) == hall.know(two, three):
-            found.append((one, two, three))
-    return found
 
 
 class TurnedTest(unittest.TestCase):
@@ -42,11 +34,22 @@ class TurnedTest(unittest.TestCase):
                 self.assertIsNot(again, hall)
                 self.assertEqual(told(again), told(hall))
 
-    def test_the_threes_are_the_same(self):
+    def check_threes_are_the_same(self, hall):
+        about = turned(hall)
+        self.assertEqual(threes_by_hand(about), threes_by_hand(hall))
+        self.assertEqual(threes(about), threes(hall))
+        self.assertEqual(how_many(about), how_many(hall))
+        self.assertEqual(a_three(about) is None, a_three(hall) is None)
+
+    def test_the_threes_of_every_small_hall_are_the_same(self):
         for hall, many, pairs in small_halls(5):
-            self.assertEqual(threes_by_hand(turned(hall)), threes_by_hand(hall))
-        hall = hall_of(20, large_pairs(20))
-        self.assertEqual(threes_by_hand(turned(hall)), threes_by_hand(hall))
+            self.check_threes_are_the_same(hall)
+
+    def test_the_threes_of_larger_halls_are_the_same(self):
+        for many in range(6, 21):
+            for pairs in some_pairs(many):
+                with self.subTest(many=many, pairs=pairs):
+                    self.check_threes_are_the_same(hall_of(many, pairs))
 
     def test_a_change_in_either_leaves_the_other(self):
         hall = hall_of(5, [(0, 1), (1, 4)])
